@@ -1,0 +1,1 @@
+"""Innercommits: which writes of a library share their fate."""
