@@ -159,7 +159,7 @@ class Database:
         present = self._present
         if self.is_doomed:
             raise Doomed(self.reason)
-        if at in self._held and not self._is_holder(at):
+        if self.has_suspended(at):
             raise Waits(at)
         write = Write(at, worth, present)
         self._made.append(write)
@@ -172,7 +172,7 @@ class Database:
 
     def _seen(self, record):
         """The write of the record that is seen, None if there is none."""
-        if record in self._held and self._is_holder(record):
+        if self.holds(record):
             return self._held[record][-1]
         return self._kept.get(record)
 
@@ -229,13 +229,32 @@ class Database:
         """The number of blocks that remain."""
         return len(self._blocks)
 
+    def holds(self, record):
+        """Whether the present transaction holds the record."""
+        return record in self._held and self._is_holder(record)
+
+    def has_suspended(self, record):
+        """Whether a suspended transaction holds the record."""
+        return record in self._held and not self._is_holder(record)
+
+    def would_commit(self):
+        """Whether a transaction is to be committed if the innermost block is left well."""
+        if not self._blocks:
+            return False
+        effect, _ = self._blocks[-1]
+        return effect == ENDS and self.levels == 1 and not self.is_doomed
+
+    def last_write(self):
+        """The write that was made last; its fate changes as it is kept or undone."""
+        return self._made[-1]
+
     def held_records(self):
         """The records that the present transaction holds, ascending."""
-        return sorted([record for record in self._held if self._is_holder(record)])
+        return sorted([record for record in self._held if self.holds(record)])
 
     def outer_records(self):
         """The records that suspended transactions hold, ascending."""
-        return sorted([record for record in self._held if not self._is_holder(record)])
+        return sorted([record for record in self._held if self.has_suspended(record)])
 
     def kept_values(self):
         """The last kept value of each record of which a write is kept, ascending."""
