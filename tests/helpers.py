@@ -1,6 +1,8 @@
 """What several tests use: values of all kinds, and looking at a whole database."""
 
 from innercommits.database import Database
+from innercommits.errors import InnercommitsError
+from innercommits.texts import Library
 
 # Values of all kinds that are no words.
 NO_WORDS = [
@@ -72,3 +74,29 @@ def parted():
 
 
 STATES = [free, within_one, doomed, levelled, suspended, parted]
+
+
+def library(*lines):
+    """The library of a function f with these lines, each without its first two spaces."""
+    return Library("\n".join(["function f", *["  " + line for line in lines]]))
+
+
+def told_error(deed, *args):
+    """The name of the class of the error that the deed raises, and its fields but `word`."""
+    try:
+        deed(*args)
+    except InnercommitsError as error:
+        name = type(error).__name__
+        return (name, *[field for key, field in vars(error).items() if key != "word" or name == "BadWord"])
+    return None
+
+
+def play_told(play):
+    """All that a play tells."""
+    calls = []
+    for number, name in enumerate(play.call_names()):
+        ended = play.is_ended(number)
+        calls.append((name, play.case_of(number), play.kept_by(number),
+                      play.face_of(number) if ended else None, play.length_of(number) if ended else None))
+    return (play.moves, play.asked, play.is_over, play.depth, calls, play.kept_by(None),
+            list(play.writes()), list(play.waits()))
