@@ -168,6 +168,11 @@ class BelongTest(unittest.TestCase):
         play = Play.of(lib, ["enter join", "write a", "doom", "call g"])
         self.assertEqual([list(play.waits()), play.face_of(0)], [[(0, "a")], ("waits", True, ("a",), (), ())])
 
+    def test_writes_that_wait_in_a_call_within_an_unknown_function(self):
+        lib = Library("function f\n  call g\n  write a\nfunction h\n  write a")
+        play = Play.of(lib, ["enter join", "write a", "enter apart", "call f", "call h", "return"])
+        self.assertEqual(list(play.waits()), [(1, "a"), (0, "a")])
+
     def test_writes_in_doomed_levels_do_not_wait(self):
         play = Play.of(library("write a"), ["enter join", "write a", "enter apart", "doom", "call f"])
         self.assertEqual([list(play.waits()), play.face_of(0)[0]], [[], "doomed"])

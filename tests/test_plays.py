@@ -151,7 +151,7 @@ class ErrorTest(unittest.TestCase):
             "enter join ", "leave ", "leave A", "leave a b", "leave 1", "leave abcdefghi", "write", "write A", "write a b",
             "write abcdefghi", "doom late", "doomed", "call", "call F", "call f f", "return late", "raise", "raise E",
             "raise e e", "yes yes", "Yes", "yes\n", "no ", "\nno", "yes no", ["yes"], ("call", "f"), ["call f"], b"yes",
-            "enter\tjoin", "pass", "call f\n", "commit", "write a\u00e4",
+            "enter\tjoin", "pass", "maybe join", "doom join", "yes join", "block join", "call f\n", "commit", "write a\u00e4",
         ]
         for lib, moves, _ in ASKING.values():
             play = Play.of(lib, moves)
