@@ -408,5 +408,19 @@ class ExampleTest(unittest.TestCase):
         self.assertEqual([db.is_doomed, db.reason, "a" in db], [True, "late", True])
 
 
+class CommitTest(unittest.TestCase):
+    def test_whether_leaving_well_is_to_commit(self):
+        told = [(make.__name__, make().would_commit()) for make in STATES]
+        self.assertEqual(told, [("free", False), ("within_one", True), ("doomed", False), ("levelled", False),
+                                ("suspended", False), ("parted", True)])
+        for make, mode in ENTERED:
+            db = make()
+            db.enter(mode)
+            before = snapshot(db)
+            opened = db.levels == 1 and mode in ("join", "inner", "apart", "alone") and make in (free, suspended)
+            self.assertEqual(db.would_commit(), opened or mode == "apart", (make.__name__, mode))
+            self.assertEqual(snapshot(db), before)
+
+
 if __name__ == "__main__":
     unittest.main()

@@ -260,5 +260,20 @@ class ListsTest(unittest.TestCase):
         self.assertEqual(db.kept_values(), {"a": 13})
 
 
+class HolderTest(unittest.TestCase):
+    def test_who_holds_a_record(self):
+        told = [(make.__name__, make().holds("x"), make().has_suspended("x")) for make in STATES]
+        self.assertEqual(told, [("free", False, False), ("within_one", True, False), ("doomed", True, False),
+                                ("levelled", True, False), ("suspended", False, True), ("parted", False, True)])
+
+    def test_the_last_write(self):
+        db = within_one()
+        db["y"] = 2
+        write = db.last_write()
+        self.assertEqual([write.record, write.value, write.fate], ["y", 2, "open"])
+        db.leave()
+        self.assertEqual(write.fate, "kept")
+
+
 if __name__ == "__main__":
     unittest.main()
