@@ -144,13 +144,13 @@ class Library:
         """The lines of the function at, any value."""
         if not is_word(at) or at not in self._bodies:
             raise NoFunction(at)
-        lines = self._text.split("\n")
-        first = lines.index(f"function {at}")
-        found = [lines[first]]
-        for line in lines[first + 1:]:
+        found = []
+        is_inside = False
+        for line in self._text.split("\n"):
             if not line.startswith(" "):
-                return found
-            found.append(line)
+                is_inside = line == f"function {at}"
+            if is_inside:
+                found.append(line)
         return found
 
     def __eq__(self, other):

@@ -192,5 +192,61 @@ class ClassTest(unittest.TestCase):
                     self.assertNotIn("keys", methods)
 
 
+def called_names(function):
+    """The names that a function calls, bare ones and those of methods."""
+    bare, methods = set(), set()
+    for node in ast.walk(function):
+        if isinstance(node, ast.Call) and isinstance(node.func, ast.Name):
+            bare.add(node.func.id)
+        elif isinstance(node, ast.Call) and isinstance(node.func, ast.Attribute):
+            methods.add(node.func.attr)
+    return bare, methods
+
+
+class OperatorTest(unittest.TestCase):
+    def setUp(self):
+        self.functions, self.stored, self.starts = {}, set(), []
+        for _, _, tree in trees():
+            for node in ast.walk(tree):
+                if isinstance(node, ast.Attribute) and isinstance(node.ctx, ast.Store):
+                    self.stored.add(node.attr)
+                elif isinstance(node, ast.FunctionDef):
+                    self.functions.setdefault(node.name, []).append(node)
+                elif isinstance(node, ast.ClassDef):
+                    self.starts += [part for part in node.body if self.is_start(part)]
+                    self.functions.setdefault(node.name, []).extend(
+                        part for part in node.body if getattr(part, "name", "") == "__init__")
+
+    def is_start(self, part):
+        """Whether this is an operator that changes nothing, or a property."""
+        if not isinstance(part, ast.FunctionDef):
+            return False
+        special = part.name.startswith("__") and part.name not in ("__init__", "__call__", "__iter__", "__setitem__")
+        return special or any(word.id == "property" for word in part.decorator_list)
+
+    def reached(self):
+        """The operators and properties, and all functions that they may call, by their names."""
+        waiting, found = list(self.starts), {}
+        while waiting:
+            function = waiting.pop()
+            if function not in found:
+                found[function] = True
+                for name in set().union(*called_names(function)):
+                    waiting.extend(self.functions.get(name, []))
+        return found
+
+    def test_operators_and_properties_call_nothing_that_an_object_may_hold(self):
+        self.assertGreater(len(self.starts), 15)
+        for function in self.reached():
+            self.assertFalse(called_names(function)[1] & self.stored, (function.name, function.lineno))
+
+    def test_operators_and_properties_change_no_attribute(self):
+        for function in self.reached():
+            if function.name != "__init__":
+                for node in ast.walk(function):
+                    is_stored = isinstance(node, ast.Attribute) and isinstance(node.ctx, (ast.Store, ast.Del))
+                    self.assertFalse(is_stored, (function.name, function.lineno))
+
+
 if __name__ == "__main__":
     unittest.main()
