@@ -78,8 +78,9 @@ class Writer:
     """Writes texts of libraries by chance."""
 
     def __init__(self, chance, names=("f", "g"), called=("f", "g", "h"), records=("a", "b"),
-                 errors=("late", "bad", "refused", "waits", "doomed"), modes=Mode.ALL):
-        self.chance = chance
+                 errors=("late", "bad", "refused", "waits", "doomed"), modes=Mode.ALL,
+                 simple=("write", "write", "write", "call", "raise", "doom", "pass")):
+        self.chance, self.simple = chance, simple
         self.names, self.called = names, called
         self.records, self.errors, self.modes = records, errors, modes
 
@@ -100,7 +101,7 @@ class Writer:
         return " ".join(self.chance.choices(words, k=self.chance.randint(1, 2)))
 
     def statement(self, nesting, size):
-        kinds = ("write", "write", "write", "call", "raise", "doom", "pass")
+        kinds = self.simple
         if size > 0 and nesting < 8:
             kinds += ("block", "block", "block", "block", "try", "try", "maybe", "repeat")
         kind = self.chance.choice(kinds)
