@@ -35,6 +35,8 @@ class Layout:
 
     def __init__(self, library, codes, looked, *, strict, silent):
         self.points = [None]
+        # Pairs of the number of a block and a point of it.
+        self.blocks_laid = []
         self._codes = codes
         self._strict = strict
         self.names = library.functions()
@@ -123,7 +125,16 @@ class Layout:
             if statement not in self._bodies:
                 self._bodies[statement] = self._part(statement.body)
             point.part = self._bodies[statement]
+        self.blocks_laid.append((statement.number, point))
         return self._put(point)
+
+    def effects_seen(self):
+        """What entering blocks has been found to do, by the number of the block and the place."""
+        found = {}
+        for number, point in self.blocks_laid:
+            for at, effect in point.seen.items():
+                found[(number, at)] = effect
+        return found
 
     def _attempt(self, statement, after, fail):
         """The key of what stands behind `try`, with its handlers and `finally` around it."""

@@ -4,6 +4,7 @@ from innercommits.codes import PENDING, kept_of
 from innercommits.errors import TooMany
 from innercommits.limits import check_names, check_size
 from innercommits.modes import Mode
+from innercommits.points import EFFECTS
 from innercommits.search import Search
 from innercommits.tables import entry_cases
 
@@ -16,6 +17,11 @@ def many_records(case):
     return len(outer) + len(held)
 
 
+def have_effects(modes, effects):
+    """Whether entering blocks of these modes does this; effects has numbers of blocks and places as keys."""
+    return all([EFFECTS[modes[number]][at] == effect for (number, at), effect in effects.items()])
+
+
 class Granting:
     """What is asked of a library with these wishes, with any modes."""
 
@@ -26,10 +32,25 @@ class Granting:
         self._silent = silent
         # Cases with few records first, as a rule is often seen to be broken in them.
         self._cases = sorted(entry_cases(looked, silent=silent), key=many_records)
+        # Pairs of what entering blocks was found to do, and whether all wishes came true
+        # then. Other modes with which entering blocks does the same need no search.
+        self._known = []
 
-    def grants(self, library):
-        """Whether all wishes come true for the library."""
-        search = Search(library, self._looked, strict=self._strict, silent=self._silent)
+    def grants(self, library, change):
+        """Whether all wishes come true for the library with this change."""
+        modes = library.blocks()
+        for number, mode in change:
+            modes[number] = mode
+        for effects, told in self._known:
+            if have_effects(modes, effects):
+                return told
+        search = Search(library.changed(change), self._looked, strict=self._strict, silent=self._silent)
+        told = self._are_granted(search)
+        self._known.append((search.layout.effects_seen(), told))
+        return told
+
+    def _are_granted(self, search):
+        """Whether all wishes come true."""
         for wish in self._wishes:
             if not self._is_granted(search, wish):
                 return False
@@ -68,7 +89,7 @@ def come_true(library, wishes, *, strict=False, silent=False):
     check_wishes(library, wishes)
     looked = tuple(library.records())
     check_size(library, looked)
-    return Granting(wishes, looked, strict, silent).grants(library)
+    return Granting(wishes, looked, strict, silent).grants(library, ())
 
 
 def all_changes(modes):
@@ -92,6 +113,6 @@ def mends(library, wishes, *, strict=False, silent=False):
     for change in all_changes(library.blocks()):
         if found != [] and len(change) > len(found[0]):
             return sorted(found)
-        if granting.grants(library.changed(change)):
+        if granting.grants(library, change):
             found.append(change)
     return sorted(found)

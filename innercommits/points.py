@@ -231,12 +231,16 @@ class BlockPoint(Point):
         self._keeps = kept
         self.start = 0
         self.part = 0
+        # What entering the block has been found to do, by the places in its effects.
+        self.seen = {}
 
     def _effect(self, row, code):
         """What entering the block does here."""
-        if row.free:
-            return self._effects[0]
-        return self._effects[2 if code & DOOMED else 1]
+        at = 0
+        if not row.free:
+            at = 2 if code & DOOMED else 1
+        self.seen[at] = self._effects[at]
+        return self._effects[at]
 
     def inner(self, row, code):
         """The body, where it begins in a situation of its own."""

@@ -11,10 +11,14 @@ FOLLOWING = ("except", "finally")
 
 
 class Statement:
-    """A statement: the first word of its line, the second one, if it has one, and its bodies."""
+    """A statement: the first word of its line, the second one, if it has one, and its bodies.
 
-    def __init__(self, words):
+    number is that of the block, if it is one: the number of blocks in the lines before.
+    """
+
+    def __init__(self, words, number):
         self.kind = words[0]
+        self.number = number
         self.word = words[1] if len(words) > 1 else ""
         # The errors behind `keep`.
         self.kept = tuple(words[3:])
@@ -99,6 +103,7 @@ class Reader:
         self.bodies = {}
         # The lines within whose bodies the reader is, one for each level.
         self._headers = []
+        self._many_blocks = 0
 
     def read(self, line):
         """Takes the next line."""
@@ -159,7 +164,9 @@ class Reader:
 
     def _add_statement(self, nesting, words):
         """Adds a statement to the body in which it stands."""
-        statement = Statement(words)
+        statement = Statement(words, self._many_blocks)
+        if words[0] == "block":
+            self._many_blocks += 1
         self._headers = self._headers[:nesting]
         self._headers[-1].body.append(statement)
         if words[0] in LEADING:

@@ -80,7 +80,7 @@ class Table:
         moves = self._search.moves_to(row, self._search.codes.face_code(face))
         return way_into(case) + (f"call {name}",) + tuple(moves)
 
-    def first_waits(self, name, cases):
+    def ways_to_wait(self, name, cases):
         """From each record at which the function waits from these cases to the fewest moves till then."""
         starts = {}
         for case in cases:

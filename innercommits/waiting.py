@@ -10,7 +10,7 @@ class SelfWaits:
 
     def __init__(self, library, name, *, strict=False):
         table = Table(library, names=[name], strict=strict, silent=True)
-        ways = table.first_waits(name, entry_cases([], silent=True))
+        ways = table.ways_to_wait(name, entry_cases([], silent=True))
         self._ways = {record: ways[record] for record in sorted(ways)}
         self.certificate = (tuple(list(self._ways.items())), table.certificate)
 

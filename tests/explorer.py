@@ -1,6 +1,7 @@
 """All plays up to some number of moves, tried one by one, and libraries by chance for tables."""
 
 from innercommits.errors import Endless, InnercommitsError, TooMany
+from innercommits.modes import Mode
 from innercommits.plays import Play
 from innercommits.texts import Library
 from tests.library_model import Writer
@@ -8,11 +9,13 @@ from tests.library_model import Writer
 SIMPLE = ("write",) * 12 + ("call",) * 4 + ("raise", "doom")
 
 
-def some_library(chance, size, called=("f", "g", "u"), records=("a", "b", "c"), names=("f", "g"), most=30):
+def some_library(chance, size, called=("f", "g", "u"), records=("a", "b", "c"), names=("f", "g"), most=30,
+                 modes=Mode.ALL):
     """A text of a library with which a table can be made."""
     while True:
         errors = chance.choice((("late",), ("late", "bad", "refused", "waits", "doomed")))
-        writer = Writer(chance, names=names, called=called, records=records, errors=errors, simple=SIMPLE)
+        writer = Writer(chance, names=names, called=called, records=records, errors=errors, simple=SIMPLE,
+                        modes=modes)
         text = writer.library(size)
         try:
             if len(Library(text)) <= most:
