@@ -86,11 +86,12 @@ class Closure:
 
     def _execute(self, search):
         """Executes the body of each row, and takes down where writes wait."""
-        for name, case in self.rows:
+        places = list(self.rows)
+        for name, case in places:
             search.row_of(name, case)
         search.run()
         self.waited = waited_records(search)
-        if search.is_lacking or not all([self._has_all(search, place) for place in self.rows]):
+        if search.is_lacking or not all([self._has_all(search, place) for place in places]):
             self.rows = None
 
     def _has_all(self, search, place):

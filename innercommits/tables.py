@@ -2,10 +2,10 @@
 
 from innercommits.errors import NoFace, NoRow
 from innercommits.limits import table_records
+from innercommits.paths import first_waits
 from innercommits.rules import subsets
 from innercommits.search import Search
 from innercommits.shapes import is_face, is_place
-from innercommits.paths import first_waits
 from innercommits.ways import way_into
 
 
