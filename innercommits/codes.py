@@ -50,11 +50,12 @@ def with_doom(code):
 
 def with_part(code, face):
     """The face of what began with the code, once a part of it has ended with the face."""
-    kept = kept_of(code | face)
-    shown = face & ~(KEPT | PENDING) | kept << 3
+    both = code | face
+    kept = both & KEPT
+    shown = face & (END | DOOMED | HELD) | kept
     if face & DOOMED:
         return shown
-    return shown | (code | face) & PENDING & ~kept
+    return shown | both & PENDING & ~(kept >> 3)
 
 
 class Codes:

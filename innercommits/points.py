@@ -164,7 +164,7 @@ class CallPoint(Point):
 
     def landings(self, row, code, face):
         """Ends as the function does."""
-        return [(self.onward(with_part(code, face)), "")]
+        return [((self.fail if face & END else self.after) | with_part(code, face), "")]
 
 
 class LastPoint(Point):

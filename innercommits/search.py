@@ -135,10 +135,14 @@ class Search:
 
     def _land(self, row, key, face, more):
         """Adds what follows where the inner part at the key has ended with a face."""
-        number = row.best[key] + more
+        best = row.best
+        number = best[key] + more
         point = self.layout.points[key >> WIDTH]
         for target, move in point.landings(row, key & CODE, face):
-            self._add(row, target, number + 1 if move else number, key)
+            far = number + 1 if move else number
+            # Looked at here already, as most of what follows is known by then.
+            if target not in best or far < best[target]:
+                self._add(row, target, far, key)
 
     def function_rows(self):
         """The rows of functions."""

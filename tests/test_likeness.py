@@ -269,6 +269,17 @@ class LookTest(unittest.TestCase):
             self.assertFalse(good(word, rows, others, ways + ((("g", place[1]), face, moves, moves),)))
             self.assertFalse(good(word, rows, others, ways + (((place[0], ways[9][0][1]), face, moves, moves),)))
 
+    def test_sides_that_are_exchanged(self):
+        one, other = library("write a"), library("maybe", "  pass", "write a")
+        word, rows, others, ways = alike(one, other).certificate
+        swapped = tuple((place, face, moves, told) for place, face, told, moves in ways)
+        for thing, good in (((word, rows, others, ways), True), ((word, others, rows, ways), False),
+                            ((word, rows, others, swapped), False), ((word, others, rows, swapped), False),
+                            ((word, rows, others, ways + swapped[:1]), False), ((word, others, others, ways), False),
+                            ((word, rows, rows, ways), True)):
+            self.assertIs(is_likeness(one, other, thing), good)
+            self.assertIs(likeness((str(one), str(other)), thing, (False, False), False), good)
+
     def test_faces_of_one_side_alone(self):
         one, other = library("write a"), library("pass", "write a")
         word, rows, others, ways = alike(one, other).certificate
