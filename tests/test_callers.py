@@ -287,7 +287,7 @@ class RunModelTest(unittest.TestCase):
                 self.assertTrue(play.is_over)
                 self.assertEqual([write[1:] for write in play.writes()], writes)
             long += len(model.moves) > 12
-        self.assertGreater(long, 200)
+        self.assertGreater(long, 150)
 
 
 if __name__ == "__main__":

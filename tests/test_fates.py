@@ -13,9 +13,9 @@ from innercommits.texts import Library
 from tests.explorer import Explorer, some_library
 from tests.helpers import library, told_error
 
-WORDS = ("enter join", "enter apart", "enter inner", "enter outside", "leave", "leave late", "doom", "write a",
-         "return", "raise late", "raise odd")
-SILENT_WORDS = ("enter join", "enter inner", "enter outside", "leave", "leave late", "doom", "return", "raise odd")
+RAISES = ("raise late", "raise odd", "raise bad", "raise refused", "raise waits", "raise doomed")
+WORDS = ("enter join", "enter apart", "enter outside", "leave", "leave late", "doom", "write a", "return", *RAISES)
+SILENT_WORDS = ("enter join", "enter inner", "leave", "leave late", "doom", "return", *RAISES)
 NO_FATES = [None, 0, 1, True, False, "", "a", "ab", [], ["a"], ["a", "b"], ("b", "a"), ("a", "a"), ("z",), (True,), (0,),
             (None,), ((),), (("a",),), ([],), ("a", "b", "c"), ("a", None), {}, "a" * 3000, ("a",) * 3000]
 
