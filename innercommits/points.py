@@ -159,27 +159,19 @@ class CallPoint(Point):
         self._part = part
 
     def inner(self, row, code):
-        """The body of the function."""
+        """The body, in the same situation."""
         return (self._part, case_here(row, code))
 
     def landings(self, row, code, face):
-        """Ends as the function does."""
+        """Ends as the body does."""
         return [((self.fail if face & END else self.after) | with_part(code, face), "")]
 
 
-class LastPoint(Point):
+class LastPoint(CallPoint):
     """`finally`, to which one comes with any end; part is the number of its body."""
 
-    def __init__(self, after, fail, part):
-        Point.__init__(self, after, fail)
-        self._part = part
-
-    def inner(self, row, code):
-        """The body of `finally`."""
-        return (self._part, case_here(row, code))
-
     def landings(self, row, code, face):
-        """Ends by the error of this body, or as before."""
+        """Ends by the error of the body, or as before."""
         end = face & END if face & END else code & END
         return [(self.onward(with_part(code, face) & SITUATION | end), "")]
 

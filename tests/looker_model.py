@@ -2,7 +2,7 @@
 
 from innercommits.plays import Play
 from innercommits.texts import Library
-from tests.table_model import Lacking, TableModel, entries
+from tests.table_model import TableModel, entries
 
 
 def is_set(thing, looked):

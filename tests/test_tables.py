@@ -1,8 +1,12 @@
 """Entry cases and tables: 29 to 31, rule by rule."""
 
+import inspect
+import sys
 import unittest
 
+from innercommits.callers import Run
 from innercommits.errors import BadRecords, NoFace, NoFunction, NoRow, TooMany
+from innercommits.fates import Fates
 from innercommits.plays import Play
 from innercommits.tables import Table, entry_cases
 from innercommits.texts import Library
@@ -355,6 +359,34 @@ class LongTest(unittest.TestCase):
         way = table.way("g", NONE, ("", False, (), ("x", "y"), ()))
         self.assertEqual(way, ("call g",) + ("yes",) * 192)
         self.assertEqual(Table(lib, names=["g"]).faces("g", OPEN)[0][1], 192)
+
+    def test_chains_near_the_greatest_weight(self):
+        rows = ["function a" + "\n  write x" * 5 + "\n  write y" * 4, "function b" + "\n  call a" * 6,
+                "function c" + "\n  call b" * 6]
+        lib = Library("\n".join(rows))
+        for silent in (False, True):
+            table = Table(lib, names=["c"], silent=silent)
+            self.assertEqual(max(number for _, faces in table.certificate for _, number in faces), 324)
+            for case in entry_cases(["x", "y"], silent=silent):
+                for face, number in table.faces("c", case):
+                    play = Play.of(lib, table.way("c", case, face))
+                    self.assertEqual([play.case_of(0), play.face_of(0), play.length_of(0)], [case, face, number])
+
+    def test_nothing_comes_to_the_limit_of_calls_in_one_another(self):
+        names = "abcdefghijk"
+        rows = [f"function {name}\n  maybe\n    call {after}" for name, after in zip(names, names[1:])]
+        lib = Library("\n".join([*rows, "function k\n  repeat\n    write x\n    maybe\n      call a"]))
+        limit = sys.getrecursionlimit()
+        sys.setrecursionlimit(len(inspect.stack()) + 60)
+        try:
+            table = Table(lib)
+            way = table.way("a", NONE, ("refused", False, (), ("x",), ()))
+            fates = Fates(lib, "a").sets()
+            run = Run(lib, Library("function s\n  call a"), "s", ["yes"] * 3000)
+        finally:
+            sys.setrecursionlimit(limit)
+        self.assertEqual([len(way), fates], [16, [(), ("x",)]])
+        self.assertEqual([run.whole.is_over, run.alone.is_over, len(run.whole.moves) > 3000], [True] * 3)
 
     def test_calls_that_are_forced_to_go_deep(self):
         text = ("function f\n  try\n    maybe\n      call g\n      call g\n      call g\n      call g\n      raise done\n    raise other\n"
