@@ -49,7 +49,7 @@ class Layout:
         self._bodies = {}
         self._lasts = {}
         self.starts = [0 for _ in self.names]
-        for number, name in enumerate(self.names):
+        for number, name in enumerate(library.functions()):
             self.starts[number] = self._line_up(library.body_of(name), 0, 0)
 
     def _raising_moves(self, library):
@@ -144,7 +144,7 @@ class Layout:
             after = fail = self._put(LastPoint(after, fail, self._lasts[statement]))
         starts = {}
         other = None
-        for errors, body in statement.handlers:
+        for errors, body in list(statement.handlers):
             key = self._line_up(body, after, fail)
             if errors == ():
                 other = key
