@@ -3,8 +3,10 @@
 import random
 import unittest
 
+from innercommits.fates import Fates, judge
 from innercommits.looker import is_closed
 from innercommits.plays import Play
+from innercommits.rules import Rule
 from innercommits.tables import Table, entry_cases
 from innercommits.texts import Library
 from tests.explorer import Explorer, ended_with_last, some_library
@@ -118,14 +120,58 @@ class DrawnTest(unittest.TestCase):
                     play.move(move)
                 except ValueError:
                     continue
+            while not play.is_over:
+                if play.asked != ("caller",):
+                    play.move(chance.choice(("yes", "yes", "yes", "no")) if len(play.moves) < 250 else "no")
+                else:
+                    play.move(chance.choice(("leave", "leave", "leave odd")) if play.depth else "return")
+            fates = {name: Fates(lib, name, strict=strict) for name in lib.functions()}
+            rule = chance.choice((Rule.together("a", "b"), Rule.has("a") >> Rule.has("c"), ~Rule.has("b")))
+            holds = {name: bool(judge(lib, name, rule, strict=strict)) for name in lib.functions()}
             for call, name in enumerate(play.call_names()):
+                self.assertIn(play.kept_by(call), fates[name])
+                self.assertTrue(rule(play.kept_by(call)) or not holds[name])
                 self.assertIn((name, play.case_of(call)), table)
-                if play.is_ended(call):
-                    faces = dict(table.faces(name, play.case_of(call)))
-                    self.assertIn(play.face_of(call), faces, (str(lib), play.moves))
-                    self.assertGreaterEqual(play.length_of(call), faces[play.face_of(call)])
-                    ended += 1
+                faces = dict(table.faces(name, play.case_of(call)))
+                self.assertIn(play.face_of(call), faces, (str(lib), play.moves))
+                self.assertGreaterEqual(play.length_of(call), faces[play.face_of(call)])
+                ended += 1
         self.assertGreater(ended, 1000)
+
+    def silent_play(self, chance, lib, strict):
+        """A play of a silent caller that is over, with a call of f."""
+        play = Play(lib, strict=strict)
+        for move in chance.choice(((), ("enter join",), ("enter join", "doom"), ("enter join", "enter outside"),
+                                   ("enter alone", "enter inner"), ("enter join", "enter apart", "doom"))):
+            play.move(move)
+        play.move("call f")
+        while not play.is_over:
+            if play.asked != ("caller",):
+                # Functions that call one another would go on for ever otherwise.
+                play.move(chance.choice(("yes", "yes", "yes", "no")) if len(play.moves) < 60 else "no")
+                continue
+            words = ["leave", "leave odd"] if play.depth else ["return", "raise late", "raise odd", "raise refused"]
+            if not play.is_ended(0) and len(play.moves) < 60 and chance.random() < 0.3:
+                words = ["doom", "enter join", "enter inner", "enter apart", "enter outside"]
+            try:
+                play.move(chance.choice(words))
+            except ValueError:
+                continue
+        return play
+
+    def test_plays_of_silent_callers_are_in_the_table(self):
+        chance = random.Random(22)
+        for number in range(150):
+            lib = Library(some_library(chance, chance.randint(2, 5), called=("f", "g", "h")))
+            strict = number % 2 == 0
+            table = Table(lib, names=["f"], strict=strict, silent=True)
+            fates = Fates(lib, "f", strict=strict, silent=True)
+            for _ in range(8):
+                play = self.silent_play(chance, lib, strict)
+                faces = dict(table.faces("f", play.case_of(0)))
+                self.assertIn(play.face_of(0), faces, (str(lib), play.moves))
+                self.assertGreaterEqual(play.length_of(0), faces[play.face_of(0)])
+                self.assertIn(play.kept_by(0), fates)
 
 
 class ModelTest(unittest.TestCase):
